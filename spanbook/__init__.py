@@ -1,0 +1,1 @@
+"""Spanbook: stretches of hours, coloured, chosen, covered and nested, with what shows it."""

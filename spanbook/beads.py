@@ -1,11 +1,7 @@
 """Crowds, good colours that are as few as a crowd has stretches, and the orders that lead to them."""
 
 from spanbook.errors import NoOrder
-from spanbook.spans import check_spans, has_hour, meet
-
-
-def places_at(spans, hour):
-    return [place for place, span in enumerate(spans) if has_hour(span, hour)]
+from spanbook.spans import check_spans, meet, places_at
 
 
 def crowd(spans):

@@ -1,4 +1,4 @@
-"""What the modules need in common of stretches: which are refused, what meets, what lies in what."""
+"""What the modules need in common of stretches: which are refused, their hours, what meets, what lies in what."""
 
 from spanbook.errors import NoStretch
 
@@ -11,6 +11,14 @@ def check_spans(spans):
 
 def has_hour(span, hour):
     return span[0] <= hour and hour < span[1]
+
+
+def places_at(spans, hour):
+    return [place for place, span in enumerate(spans) if has_hour(span, hour)]
+
+
+def how_long(span):
+    return span[1] - span[0]
 
 
 def meet(one, other):

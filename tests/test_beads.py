@@ -5,32 +5,9 @@ import unittest
 
 from spanbook.beads import beads, colours_by, crowd, last_first
 from spanbook.errors import NoOrder, NoStretch
-from tests.helper import HUGE, SpanCase, bad_lists, hours_of, many_spans, small_lists, spread
-
-ORDINARY = [
-    [(0, 4), (2, 6), (5, 9), (3, 7)],
-    [(0, 3), (3, 5), (5, 6)],
-    [(0, 10), (2, 8), (3, 5), (6, 7)],
-    [(2, 9), (2, 9), (2, 9)],
-    [(0, 5), (2, 5), (4, 5), (5, 6)],
-    [(0, 5), (0, 2), (0, 1), (-1, 0)],
-    [(0, 1), (5, 6), (-9, -8)],
-    [(0, 100), (90, 95), (3, 4), (94, 99), (3, 91)],
-]
-EDGES = [[], [(0, 1)], [(-1, 0)], [(-7, -3)], [(-HUGE, HUGE)], [(0, 1), (1, 2)], [(-1, 0), (0, 1), (-1, 1)]]
-MANY = [
-    many_spans(200),
-    many_spans(200, longest=3),
-    many_spans(230),
-    [(0, 1)] * 200,
-    [(hour, hour + 1) for hour in range(200)],
-    [(-hour, hour) for hour in range(1, 201)],
-    [(hour, hour + 200) for hour in range(200)],
-]
-LONG = [
-    [(HUGE, HUGE + 1), (HUGE - 1, HUGE), (-HUGE, HUGE + 1)],
-    [(-HUGE, HUGE), (-HUGE - 1, -HUGE), (0, HUGE * 9), (HUGE - 1, HUGE)],
-]
+from tests.helper import (
+    EDGES, HUGE, LONG, MANY, ORDINARY, SpanCase, bad_lists, hours_of, many_spans, meeting, small_lists, spread,
+)
 
 
 def most_at_an_hour(spans):
@@ -53,10 +30,6 @@ def told_with_size():
 
 def having(spans, hour):
     return [place for place, (start, stop) in enumerate(spans) if start <= hour < stop]
-
-
-def meeting(one, other):
-    return max(one[0], other[0]) < min(one[1], other[1])
 
 
 class Crowd(SpanCase):

@@ -2,7 +2,7 @@ import itertools
 import unittest
 
 from spanbook.errors import NoStretch
-from spanbook.spans import check_spans, has_hour, lies_in, meet
+from spanbook.spans import check_spans, has_hour, how_long, lies_in, meet, places_at
 from tests.helper import HUGE, SpanCase, bad_lists, hours_of, many_spans, small_spans, spread
 
 
@@ -32,6 +32,18 @@ class Hours(unittest.TestCase):
             for hour in range(-4, 5):
                 with self.subTest(span=span, hour=hour):
                     self.assertIs(has_hour(span, hour), hour in hours_of(span))
+
+    def test_how_many(self):
+        for span in small_spans():
+            self.assertEqual(how_long(span), len(hours_of(span)))
+        self.assertEqual(how_long((-HUGE, HUGE)), 2 * HUGE)
+
+    def test_places_of_all_that_have_an_hour(self):
+        spans = [(0, 4), (4, 9), (2, 5), (0, 4), (-3, 1)]
+        for hour in range(-4, 10):
+            expected = [place for place in range(len(spans)) if hour in hours_of(spans[place])]
+            self.assertEqual(places_at(spans, hour), expected)
+        self.assertEqual(places_at([], 0), [])
 
     def test_of_a_hundred_figures(self):
         span = (-HUGE, HUGE)
